@@ -1,0 +1,1 @@
+"""Messages that share one wire: see README.md."""
