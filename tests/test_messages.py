@@ -181,7 +181,7 @@ class Refused(Case):
 
     def test_others_behind(self):
         for at, field in enumerate(FIELDS):
-            for value in other_values():
+            for value in any_values():
                 args = with_one(field, value)
                 for behind in range(at + 1, 5):
                     args[behind] = [behind]
