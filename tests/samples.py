@@ -2,6 +2,7 @@
 
 from wireranks import errors
 from wireranks.messages import Message
+from wireranks.wires import Wire
 
 TABLE = (
     errors.InvalidMessage,
@@ -60,6 +61,7 @@ def other_values():
         deep_dict(),
         Message("a", 5, 2, 1, 9),
         [Message("a", 5, 2, 1, 9)],
+        Wire([Message("a", 5, 2, 1, 9)]),
         errors.WireRanksError(),
         errors.WireRanksError(1),
         *[error() for error in TABLE],

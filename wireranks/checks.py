@@ -1,5 +1,7 @@
 """What is a whole number, and what is a name."""
 
+from wireranks.errors import InvalidNumber
+
 MOST_SIGNS = 8
 
 
@@ -20,3 +22,9 @@ def is_name(value):
         return False
     # The methods of strings would let letters beyond a to z pass.
     return all(["a" <= sign <= "z" for sign in value])
+
+
+def check_number(value, least):
+    """Refuses what is not a whole number of at least the least one."""
+    if not is_whole_from(value, least):
+        raise InvalidNumber(value)

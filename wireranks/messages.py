@@ -1,7 +1,7 @@
-"""The messages that share the wire."""
+"""The messages that share the wire, and lists of them."""
 
 from wireranks.checks import is_name, is_whole_from
-from wireranks.errors import InvalidMessage
+from wireranks.errors import InvalidMessage, InvalidMessages, InvalidName
 
 
 def _is_message(name, gap, length, jitter, last):
@@ -49,3 +49,27 @@ class Message:
     def __eq__(self, other):
         return (isinstance(other, Message) and self._name == other._name and self._gap == other._gap
                 and self._length == other._length and self._jitter == other._jitter and self._last == other._last)
+
+
+def names_of(messages):
+    return [message.name for message in messages]
+
+
+def _is_messages(value):
+    if not isinstance(value, list) or not value:
+        return False
+    if not all([isinstance(message, Message) for message in value]):
+        return False
+    return len(set(names_of(value))) == len(value)
+
+
+def check_messages(value):
+    """Refuses what is not a list of at least one message, all of different names."""
+    if not _is_messages(value):
+        raise InvalidMessages(value)
+
+
+def check_name(messages, value):
+    """Refuses what is not the name of one of the messages."""
+    if value not in names_of(messages):
+        raise InvalidName(value)
